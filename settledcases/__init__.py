@@ -1,0 +1,1 @@
+"""Settledcases: a court that never goes against what it has decided."""

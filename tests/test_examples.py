@@ -1,0 +1,72 @@
+"""The examples of the interface, as they stand there.
+
+>>> from settledcases.forum import Forum
+>>> forum = Forum("a", "m", (2,))
+>>> [forum.text, forum.limits, forum.steps, forum.size]
+['a/m/2', (1, 1, 2), ((0, 1), (1, 1), (2, 1), (2, 2)), 12]
+
+>>> from settledcases.forum import Forum
+>>> forum = Forum.read("ab/m/2")
+>>> [forum.word((1, 0, 1, 2)), forum.read_case("ab/m/0")]
+['a//2', (1, 1, 0, 0)]
+
+>>> from settledcases.forum import Forum
+>>> from settledcases.book import Book, bounds, quarrels, settled
+>>> book = Book(Forum("ab"), 1, [((1, 0), 1)])
+>>> [settled(book, (1, 1)), settled(book, (0, 1)), bounds(book, (0, 0))]
+[1, None, (0, 1)]
+>>> quarrels(book.added((1, 1), 0))
+[(0, 1)]
+
+>>> from settledcases.forum import Forum
+>>> from settledcases.exchange import exchanged_case
+>>> exchanged_case(Forum("ab", "m", (2,)), (1, 0, 1, 2))
+(0, 0, 1, 0)
+
+>>> from settledcases.booklines import read_book
+>>> read_book("a/m/ 2\\na/m/ 2\\n// 0").rows
+(((1, 0), 2), ((0, 1), 0))
+
+>>> from settledcases.forum import Forum
+>>> from settledcases.book import Book
+>>> from settledcases.overruling import best_grades, least_price
+>>> from settledcases.falls import overrulings
+>>> book = Book(Forum("ab"), 1, [((1, 0), 1), ((1, 1), 0), ((0, 1), 1)])
+>>> [best_grades(book), least_price(book)]
+[(1, 1, 1), 1]
+>>> [best_grades(book, [1, 2, 1]), best_grades(book, [1, 2, 1], high=True)]
+[(0, 0, 0), (1, 1, 1)]
+>>> list(overrulings(book, [1, 2, 1]))
+[(0, 2), (1,)]
+
+>>> from settledcases.forum import Forum
+>>> from settledcases.book import Book
+>>> from settledcases.changes import least_changes
+>>> book = Book(Forum("ab"), 3, [((0, 0), 3), ((1, 0), 1), ((1, 1), 2)])
+>>> [least_changes(book), least_changes(book, high=True)]
+[(1, 1, 2), (2, 2, 2)]
+"""
+
+import doctest
+import os
+import unittest
+
+README = os.path.join(os.path.dirname(os.path.dirname(os.path.abspath(__file__))), "README.md")
+
+
+def run_examples(text, name):
+    """The number of examples in the text, and the number of those that fail."""
+    test = doctest.DocTestParser().get_doctest(text, {}, name, name, 0)
+    failed, tried = doctest.DocTestRunner(verbose=False).run(test)
+    return tried, failed
+
+
+class ExamplesTest(unittest.TestCase):
+    def test_interface(self):
+        self.assertEqual(run_examples(__doc__, "interface"), (29, 0))
+
+    def test_readme(self):
+        with open(README, encoding="utf-8") as file:
+            tried, failed = run_examples(file.read(), "README.md")
+        self.assertGreater(tried, 0)
+        self.assertEqual(failed, 0)

@@ -1,0 +1,201 @@
+"""The general rules (points 2 to 4), and the interface as a whole."""
+
+import inspect
+import unittest
+from importlib import import_module
+
+from settledcases import book, booklines, changes, exchange, falls, forum, judges, leastbook, neighbors, order
+from settledcases import overruling, rising, settling, sidebooks, thresholds, web
+from settledcases.errors import AtOdds, CourtError, NotYesNo, TooLarge
+
+# Each module with its functions and classes and their parameters.
+INTERFACE = {
+    "forum": {"Forum": 'pro="", con="", tops=()'},
+    "order": {
+        "at_least": "x, y", "join_of": "x, y", "meet_of": "x, y", "weakest": "cases", "strongest": "cases",
+        "between": "forum, low, high",
+    },
+    "book": {
+        "Book": "forum, top=1, rows=()", "quarrels": "book", "bounds": "book, case", "settled": "book, case",
+    },
+    "judges": {"Judge": "forum, top=1", "FloorJudge": "forum, top, rows", "CeilingJudge": "forum, top, rows"},
+    "neighbors": {
+        "stronger_by_one": "forum, case", "weaker_by_one": "forum, case", "shortest_chain": "forum, low, high",
+    },
+    "exchange": {
+        "exchanged_forum": "forum", "exchanged_case": "forum, case", "exchanged_book": "book",
+        "ExchangedJudge": "judge", "renamed_forum": "forum, letters",
+    },
+    "booklines": {
+        "book_text": "book", "read_book": "text", "case_words": "forum, cases", "read_words": "forum, text",
+    },
+    "settling": {
+        "least_judge": "book", "greatest_judge": "book", "reasons": "book, case", "settled_table": "book",
+        "unsettled": "book",
+    },
+    "rising": {"is_rising": "forum, table", "TableJudge": "forum, top, table", "rising_tables": "book"},
+    "leastbook": {"least_book": "book", "spare_rows": "book", "settles_same": "a, b"},
+    "sidebooks": {"common": "a, b", "dividing": "a, b"},
+    "web": {"least_cover": "left, right, pairs, *, high=False", "most_apart": "left, right, pairs"},
+    "overruling": {
+        "best_grades": "book, prices=None, *, high=False", "overruled": "book, prices=None, *, high=False",
+        "least_price": "book, prices=None", "apart": "book, prices=None", "regraded": "book, grades",
+    },
+    "falls": {"falls": "book, prices=None", "overrulings": "book, prices=None", "safe_book": "book, prices=None"},
+    "changes": {
+        "least_changes": "book, prices=None, *, high=False", "changes_price": "book, grades, prices=None",
+    },
+    "thresholds": {"threshold_books": "book", "stacked": "books", "award_papers": "book, prices=None"},
+}
+
+METHODS = {
+    ("forum", "Forum"): {
+        "number": "case", "reaches": "case, step", "word": "case", "read_case": "text", "read": "text",
+    },
+    ("book", "Book"): {"added": "case, grade", "at": "threshold"},
+    ("judges", "Judge"): {
+        "grade_of": "case", "table": "", "first_break": "book", "keeps": "book", "parting": "other",
+    },
+    ("judges", "FloorJudge"): {"grade_of": "case"},
+    ("judges", "CeilingJudge"): {"grade_of": "case"},
+    ("exchange", "ExchangedJudge"): {"grade_of": "case"},
+    ("rising", "TableJudge"): {"grade_of": "case"},
+}
+
+PROPERTIES = ("text", "size", "weakest_case", "strongest_case")
+GENERATORS = {"unsettled", "rising_tables", "dividing", "overrulings"}
+
+AB = forum.Forum("ab")
+BOOK = book.Book(AB, 1, [((1, 0), 1), ((0, 0), 0)])
+QUARREL = book.Book(AB, 1, [((1, 0), 1), ((1, 1), 0)])
+AWARDS = book.Book(AB, 3, [((1, 0), 3), ((1, 1), 1)])
+
+
+def parameters(function):
+    """The parameters of a function or class as they are written."""
+    return str(inspect.signature(function)).replace("'", '"')
+
+
+class InterfaceTest(unittest.TestCase):
+    def test_functions_and_classes(self):
+        for name, listed in INTERFACE.items():
+            module = import_module(f"settledcases.{name}")
+            for function, expected in listed.items():
+                found = getattr(module, function)
+                self.assertEqual(found.__module__, module.__name__)
+                self.assertEqual(parameters(found), f"({expected})")
+                self.assertEqual(inspect.isgeneratorfunction(found), function in GENERATORS)
+
+    def test_methods(self):
+        for (name, owner), listed in METHODS.items():
+            own = vars(getattr(import_module(f"settledcases.{name}"), owner))
+            for method, expected in listed.items():
+                found = own[method]
+                first = "cls" if isinstance(found, classmethod) else "self"
+                self.assertEqual(first == "cls", method == "read")
+                found = getattr(found, "__func__", found)
+                self.assertEqual(parameters(found), f"({', '.join([first, expected] if expected else [first])})")
+
+    def test_properties(self):
+        for name in PROPERTIES:
+            self.assertIsInstance(vars(forum.Forum)[name], property)
+
+
+def results():
+    """What the functions and methods return for some arguments."""
+    judge = judges.FloorJudge(AB, 1, BOOK.rows)
+    yield from (AB.size, AB.number((1, 0)), AB.steps, AB.limits, AB.weakest_case, AB.strongest_case)
+    yield from (order.join_of((1, 0), (0, 1)), order.meet_of((1, 0), (0, 1)), order.between(AB, (0, 0), (1, 1)))
+    yield from (BOOK.rows, AWARDS.at(2).rows, book.quarrels(QUARREL), book.bounds(BOOK, (1, 0)))
+    yield from (book.settled(BOOK, (1, 1)), judge.table(), judge((1, 0)), judge.first_break(book.Book(AB, 1, [((1, 0), 0)])))
+    yield from (judge.parting(judges.Judge(AB)), exchange.ExchangedJudge(judge).table())
+    yield from (exchange.exchanged_case(AB, (1, 0)), exchange.exchanged_book(BOOK).rows)
+    yield from (neighbors.stronger_by_one(AB, (0, 0)), neighbors.shortest_chain(AB, (0, 0), (1, 1)))
+    yield from (booklines.read_book("ab// 1\na// 1").rows, booklines.read_words(AB, "a// //"))
+    yield from (settling.reasons(BOOK, (1, 0)), settling.settled_table(BOOK), list(settling.unsettled(BOOK)))
+    yield from (list(rising.rising_tables(BOOK)), rising.TableJudge(AB, 1, (0, 0, 1, 1)).table())
+    yield from (leastbook.least_book(BOOK).rows, leastbook.spare_rows(BOOK), sidebooks.common(BOOK, BOOK))
+    yield from (web.least_cover([1], [1], [(0, 0)]), web.most_apart([1], [1], [(0, 0)]))
+    yield from (overruling.best_grades(QUARREL), overruling.overruled(QUARREL), overruling.least_price(QUARREL))
+    yield from (overruling.apart(QUARREL), overruling.regraded(QUARREL, [1, 1]).rows, list(falls.overrulings(QUARREL)))
+    yield from (changes.least_changes(AWARDS), changes.changes_price(AWARDS, [1, 1]), thresholds.award_papers(AWARDS))
+    yield from (thresholds.stacked(thresholds.threshold_books(AWARDS)).rows,)
+
+
+def truth_values(found):
+    """The truth values in a result, however deep."""
+    if isinstance(found, (list, tuple)):
+        return [value for entry in found for value in truth_values(entry)]
+    return [found] if isinstance(found, bool) else []
+
+
+def lists(found):
+    """The lists in a result, however deep."""
+    if isinstance(found, (list, tuple)):
+        inner = [value for entry in found for value in lists(entry)]
+        return inner + [found] if isinstance(found, list) else inner
+    return []
+
+
+class ResultsTest(unittest.TestCase):
+    def test_no_truth_value_as_a_number(self):
+        """Point 2."""
+        for found in results():
+            self.assertEqual(truth_values(found), [])
+
+    def test_same_arguments_same_results(self):
+        """Points 2 and 3: changing what was returned has no effect on what is returned later."""
+        first = [repr(found) for found in results()]
+        for found in results():
+            for changed in lists(found):
+                changed.append("changed")
+        self.assertEqual([repr(found) for found in results()], first)
+
+    def test_every_list_is_new(self):
+        """Point 3."""
+        seen = [changed for _ in range(2) for found in results() for changed in lists(found)]
+        self.assertEqual(len({id(changed) for changed in seen}), len(seen))
+        self.assertGreater(len(seen), 10)
+
+    def test_papers_hold_new_lists(self):
+        """Point 3, for lists in a list."""
+        for papers in (thresholds.award_papers(AWARDS), thresholds.award_papers(book.Book(AB, 4))):
+            self.assertEqual(len({id(paper) for paper in papers}), len(papers))
+            self.assertTrue(all(isinstance(paper, list) for paper in papers))
+
+
+class ArgumentsTest(unittest.TestCase):
+    def test_lists_stay_as_they_are(self):
+        """Point 3."""
+        case_list, pairs, sides, rows = [(1, 1), (0, 0), (1, 1)], [(0, 1), (0, 0), (0, 1)], [1, 2], [((1, 0), 1)]
+        order.weakest(case_list)
+        order.strongest(case_list)
+        booklines.case_words(AB, case_list)
+        web.least_cover(sides, sides, pairs)
+        web.least_cover(sides, sides, pairs, high=True)
+        web.most_apart(sides, sides, pairs)
+        judges.FloorJudge(AB, 1, rows)
+        book.Book(AB, 1, rows)
+        self.assertEqual((case_list, pairs), ([(1, 1), (0, 0), (1, 1)], [(0, 1), (0, 0), (0, 1)]))
+        self.assertEqual((sides, rows), ([1, 2], [((1, 0), 1)]))
+
+    def test_lists_stay_as_they_are_after_an_error(self):
+        """Point 4."""
+        rows, prices, pairs = [((1, 0), 1), ((1, 1), 3)], [1, 0], [(0, 0), (3, 3)]
+        for asked in (
+            lambda: book.Book(AB, 1, rows), lambda: judges.CeilingJudge(AB, 1, rows), lambda: overruling.apart(QUARREL, prices),
+            lambda: web.most_apart(prices, prices, pairs), lambda: overruling.regraded(QUARREL, [1, 2, 3]), lambda: QUARREL - [1, 2],
+        ):
+            with self.assertRaises(CourtError):
+                asked()
+        self.assertEqual((rows, prices, pairs), ([((1, 0), 1), ((1, 1), 3)], [1, 0], [(0, 0), (3, 3)]))
+        self.assertEqual(QUARREL.rows, (((1, 0), 1), ((1, 1), 0)))
+
+    def test_generators_raise_when_iterated(self):
+        """Point 4."""
+        for waiting, error in [
+            (settling.unsettled(QUARREL), AtOdds), (sidebooks.dividing(QUARREL, BOOK), AtOdds),
+            (rising.rising_tables(book.Book(forum.Forum("abcde"))), TooLarge), (falls.overrulings(AWARDS), NotYesNo),
+        ]:
+            with self.assertRaises(error):
+                list(waiting)
