@@ -42,9 +42,30 @@
 >>> from settledcases.forum import Forum
 >>> from settledcases.book import Book
 >>> from settledcases.changes import least_changes
+>>> from settledcases.evening import even_changes, greatest_fall
 >>> book = Book(Forum("ab"), 3, [((0, 0), 3), ((1, 0), 1), ((1, 1), 2)])
 >>> [least_changes(book), least_changes(book, high=True)]
 [(1, 1, 2), (2, 2, 2)]
+>>> [greatest_fall(book), even_changes(book)]
+[(2, (0, 1)), (2, 2, 2)]
+
+>>> from settledcases.forum import Forum
+>>> from settledcases.rules import Rules
+>>> rules = Rules(Forum("abc"), [((1, 1, 0), (1, 0, 0), 1)])
+>>> rules.decide((1, 0, 1), (1, 0, 1), 0)
+(0,)
+>>> rules.rows[0]
+((1, 1, 0), (1, 1, 0), 1)
+
+>>> from settledcases.forum import Forum
+>>> from settledcases.book import Book
+>>> from settledcases.ladder import keeper, verdict
+>>> rows = [((1, 1, 0, 0), 1), ((0, 0, 1, 1), 1), ((1, 0, 1, 0), 0), ((0, 1, 0, 1), 0)]
+>>> book = Book(Forum("abcd"), 1, rows)
+>>> keeper("ranked", book).text
+'closed 0 1 2 3'
+>>> verdict("rising", book, (1, 1, 1, 0))[1].text
+'quarrel 0 4'
 """
 
 import doctest
@@ -63,7 +84,7 @@ def run_examples(text, name):
 
 class ExamplesTest(unittest.TestCase):
     def test_interface(self):
-        self.assertEqual(run_examples(__doc__, "interface"), (29, 0))
+        self.assertEqual(run_examples(__doc__, "interface"), (43, 0))
 
     def test_readme(self):
         with open(README, encoding="utf-8") as file:

@@ -4,8 +4,9 @@ import inspect
 import unittest
 from importlib import import_module
 
-from settledcases import book, booklines, changes, exchange, falls, forum, judges, leastbook, neighbors, order
-from settledcases import overruling, rising, settling, sidebooks, thresholds, web
+from settledcases import balance, book, booklines, changes, closing, evening, exchange, falls, forum, judges, kinds
+from settledcases import ladder, leastbook, neighbors, order, overruling, papers, rising, rules, settling, sidebooks
+from settledcases import thresholds, web, widest
 from settledcases.errors import AtOdds, CourtError, NotYesNo, TooLarge
 
 # Each module with its functions and classes and their parameters.
@@ -46,6 +47,18 @@ INTERFACE = {
         "least_changes": "book, prices=None, *, high=False", "changes_price": "book, grades, prices=None",
     },
     "thresholds": {"threshold_books": "book", "stacked": "books", "award_papers": "book, prices=None"},
+    "evening": {"greatest_fall": "book", "even_changes": "book", "greatest_change": "book, grades"},
+    "rules": {"narrowed": "row, case", "Rules": "forum, rows=()"},
+    "widest": {"widest_rules": "rules, case, grade", "free_cases": "rules"},
+    "kinds": {
+        "SingleJudge": "forum, step", "RankedJudge": "forum, grounds, default", "WeighingJudge": "forum, weights, bar",
+    },
+    "papers": {
+        "Paper": "", "Quarrel": "low, high", "Balance": "counts", "ClosedSet": "rows", "FailedSteps": "rows",
+    },
+    "closing": {"closing": "book", "ranked_keeper": "book", "greatest_closed_set": "book", "single_keeper": "book"},
+    "balance": {"weighing_keeper": "book"},
+    "ladder": {"rising_keeper": "book", "keeper": "kind, book", "verdict": "kind, book, case"},
 }
 
 METHODS = {
@@ -60,10 +73,28 @@ METHODS = {
     ("judges", "CeilingJudge"): {"grade_of": "case"},
     ("exchange", "ExchangedJudge"): {"grade_of": "case"},
     ("rising", "TableJudge"): {"grade_of": "case"},
+    ("rules", "Rules"): {
+        "decide": "case, rule, grade", "case_book": "", "rule_book": "", "told_book": "", "speaking": "case",
+    },
+    ("kinds", "SingleJudge"): {"grade_of": "case"},
+    ("kinds", "RankedJudge"): {"grade_of": "case", "ground_for": "case"},
+    ("kinds", "WeighingJudge"): {"grade_of": "case", "weight_of": "case"},
+    ("papers", "Paper"): {"holds": "book", "row_numbers": ""},
+    ("papers", "Quarrel"): {"holds": "book", "row_numbers": ""},
+    ("papers", "Balance"): {"holds": "book", "row_numbers": ""},
+    ("papers", "ClosedSet"): {"holds": "book", "row_numbers": ""},
+    ("papers", "FailedSteps"): {"holds": "book", "row_numbers": ""},
 }
 
-PROPERTIES = ("text", "size", "weakest_case", "strongest_case")
-GENERATORS = {"unsettled", "rising_tables", "dividing", "overrulings"}
+PROPERTIES = {
+    ("forum", "Forum"): ("text", "size", "weakest_case", "strongest_case"),
+    ("papers", "Paper"): ("text",),
+    ("papers", "Quarrel"): ("text",),
+    ("papers", "Balance"): ("text",),
+    ("papers", "ClosedSet"): ("text",),
+    ("papers", "FailedSteps"): ("text",),
+}
+GENERATORS = {"unsettled", "rising_tables", "dividing", "overrulings", "free_cases"}
 
 AB = forum.Forum("ab")
 BOOK = book.Book(AB, 1, [((1, 0), 1), ((0, 0), 0)])
@@ -97,8 +128,10 @@ class InterfaceTest(unittest.TestCase):
                 self.assertEqual(parameters(found), f"({', '.join([first, expected] if expected else [first])})")
 
     def test_properties(self):
-        for name in PROPERTIES:
-            self.assertIsInstance(vars(forum.Forum)[name], property)
+        for (name, owner), listed in PROPERTIES.items():
+            own = vars(getattr(import_module(f"settledcases.{name}"), owner))
+            for word in listed:
+                self.assertIsInstance(own[word], property)
 
 
 def results():
@@ -120,6 +153,30 @@ def results():
     yield from (overruling.apart(QUARREL), overruling.regraded(QUARREL, [1, 1]).rows, list(falls.overrulings(QUARREL)))
     yield from (changes.least_changes(AWARDS), changes.changes_price(AWARDS, [1, 1]), thresholds.award_papers(AWARDS))
     yield from (thresholds.stacked(thresholds.threshold_books(AWARDS)).rows,)
+    yield from (evening.greatest_fall(AWARDS), evening.even_changes(AWARDS), evening.greatest_change(AWARDS, [1, 1]))
+    yield from rule_results()
+    yield from ladder_results()
+
+
+def rule_results():
+    """What the functions and methods about rules return for some arguments."""
+    ruled = rules.Rules(AB, [((1, 0), (0, 0), 1)])
+    yield from (ruled.decide((0, 1), (1, 1), 0), ruled.rows, ruled.told, ruled.speaking((1, 1)))
+    yield from (ruled.case_book().rows, ruled.rule_book().rows, ruled.told_book().rows)
+    yield from (rules.narrowed(((1, 0), (0, 0), 1), (0, 1)), widest.widest_rules(ruled, (1, 1), 1))
+    yield list(widest.free_cases(rules.Rules(AB)))
+
+
+def ladder_results():
+    """What the functions and methods about the ladder of judges return for some arguments."""
+    ranked, weighing = kinds.RankedJudge(AB, [(0, 1)], 0), kinds.WeighingJudge(AB, [1, 2], 2)
+    yield from (kinds.SingleJudge(AB, 0).table(), ranked.table(), ranked.ground_for((1, 0)), ranked.ground_for((0, 1)))
+    yield from (weighing.table(), weighing.weight_of((1, 1)), closing.closing(BOOK), closing.greatest_closed_set(QUARREL))
+    found = [ladder.keeper(kind, QUARREL) for kind in kinds.KINDS] + [papers.Paper(), balance.weighing_keeper(QUARREL)]
+    for paper in found:
+        yield from (paper.text, paper.row_numbers())
+    for kind in kinds.KINDS:
+        yield from (ladder.keeper(kind, BOOK).table(), ladder.verdict(kind, BOOK, (1, 1))[0])
 
 
 def truth_values(found):
@@ -176,6 +233,8 @@ class ArgumentsTest(unittest.TestCase):
         web.most_apart(sides, sides, pairs)
         judges.FloorJudge(AB, 1, rows)
         book.Book(AB, 1, rows)
+        papers.Balance(pairs).row_numbers()
+        kinds.WeighingJudge(AB, sides, 1).table()
         self.assertEqual((case_list, pairs), ([(1, 1), (0, 0), (1, 1)], [(0, 1), (0, 0), (0, 1)]))
         self.assertEqual((sides, rows), ([1, 2], [((1, 0), 1)]))
 
