@@ -66,6 +66,33 @@
 'closed 0 1 2 3'
 >>> verdict("rising", book, (1, 1, 1, 0))[1].text
 'quarrel 0 4'
+
+>>> from settledcases.forum import Forum
+>>> from settledcases.suits import Rulings, Suit
+>>> from settledcases.trees import leaves, panel_or_tree
+>>> suit = Suit([Forum("a"), Forum("b")])
+>>> rulings = Rulings(suit, [(((0,), None), "all", 1), (((1,), (1,)), "all", 0), ((None, (0,)), "any", 1)])
+>>> [rulings.choice_rows(), leaves(panel_or_tree(rulings))]
+[(1, 2), 2]
+>>> panel_or_tree(rulings)
+('split', 1, ((0, ('quarrel', 0, 0, 1)), (1, ('split', 2, ((1, ('quarrel', 1, 2, 1)),)))))
+
+>>> from settledcases.forum import Forum
+>>> from settledcases.issues import forced_picks, ruling_status
+>>> from settledcases.suits import Rulings, Suit
+>>> suit = Suit([Forum("a"), Forum("b")])
+>>> rulings = Rulings(suit, [(((0,), None), "all", 1), (((1,), (1,)), "all", 0)])
+>>> [forced_picks(rulings), ruling_status(rulings, (None, (1,)), "all")[0]]
+[((None, 1), None), 0]
+
+>>> from settledcases.courts import Courts, Diary
+>>> from settledcases.forum import Forum
+>>> from settledcases.standing import standing
+>>> from settledcases.telling import told
+>>> courts = Courts(Forum("a"), [-1, 0], [0, 1])
+>>> diary = Diary(courts, [("decide", 1, (1,), 1), ("decide", 0, (1,), 0), ("decide", 0, (1,), 1)])
+>>> [standing(diary), told(diary, 1, (1,)), told(diary.closed(0), 1, (1,))]
+[(0, 2), 'not yet', 'won']
 """
 
 import doctest
@@ -84,7 +111,7 @@ def run_examples(text, name):
 
 class ExamplesTest(unittest.TestCase):
     def test_interface(self):
-        self.assertEqual(run_examples(__doc__, "interface"), (43, 0))
+        self.assertEqual(run_examples(__doc__, "interface"), (63, 0))
 
     def test_readme(self):
         with open(README, encoding="utf-8") as file:

@@ -4,9 +4,9 @@ import inspect
 import unittest
 from importlib import import_module
 
-from settledcases import balance, book, booklines, changes, closing, evening, exchange, falls, forum, judges, kinds
-from settledcases import ladder, leastbook, neighbors, order, overruling, papers, rising, rules, settling, sidebooks
-from settledcases import thresholds, web, widest
+from settledcases import balance, book, booklines, changes, climbing, closing, courts, evening, exchange, falls, forum
+from settledcases import issues, judges, kinds, ladder, leastbook, neighbors, order, overruling, panels, papers, picks
+from settledcases import rising, rules, settling, sidebooks, standing, suits, telling, thresholds, trees, web, widest
 from settledcases.errors import AtOdds, CourtError, NotYesNo, TooLarge
 
 # Each module with its functions and classes and their parameters.
@@ -59,6 +59,20 @@ INTERFACE = {
     "closing": {"closing": "book", "ranked_keeper": "book", "greatest_closed_set": "book", "single_keeper": "book"},
     "balance": {"weighing_keeper": "book"},
     "ladder": {"rising_keeper": "book", "keeper": "kind, book", "verdict": "kind, book, case"},
+    "climbing": {"climb": "judge", "descend": "paper, book", "rung_of": "judge"},
+    "suits": {"Suit": "forums", "Rulings": "suit, rows=()"},
+    "panels": {"Panel": "suit, judges"},
+    "picks": {
+        "known_parts": "rulings, picks", "all_picks": "rulings", "first_picks": "rulings", "panel_of": "rulings, picks",
+    },
+    "trees": {"panel_or_tree": "rulings", "tree_holds": "rulings, tree", "leaves": "tree"},
+    "issues": {"ruling_status": "rulings, parts, mode", "forced_picks": "rulings", "one_mode": "rulings"},
+    "courts": {"Courts": "forum, parents, firm", "Diary": "courts, entries=()"},
+    "standing": {"beats": "diary, a, b", "standing": "diary", "beater": "diary, day", "binding": "diary, court"},
+    "telling": {
+        "first_unclosed": "diary, court", "final_book": "diary, court", "told": "diary, court, case",
+        "lowest_court": "diary, court, case, grade",
+    },
 }
 
 METHODS = {
@@ -84,6 +98,11 @@ METHODS = {
     ("papers", "Balance"): {"holds": "book", "row_numbers": ""},
     ("papers", "ClosedSet"): {"holds": "book", "row_numbers": ""},
     ("papers", "FailedSteps"): {"holds": "book", "row_numbers": ""},
+    ("suits", "Suit"): {"joined_forum": "", "joined_case": "parts"},
+    ("suits", "Rulings"): {"added": "parts, mode, grade", "choice_rows": ""},
+    ("panels", "Panel"): {"__call__": "parts, mode", "first_break": "rulings", "keeps": "rulings"},
+    ("courts", "Courts"): {"line_of": "court"},
+    ("courts", "Diary"): {"decided": "court, case, grade", "closed": "court", "closed_courts": ""},
 }
 
 PROPERTIES = {
@@ -94,7 +113,7 @@ PROPERTIES = {
     ("papers", "ClosedSet"): ("text",),
     ("papers", "FailedSteps"): ("text",),
 }
-GENERATORS = {"unsettled", "rising_tables", "dividing", "overrulings", "free_cases"}
+GENERATORS = {"unsettled", "rising_tables", "dividing", "overrulings", "free_cases", "all_picks"}
 
 AB = forum.Forum("ab")
 BOOK = book.Book(AB, 1, [((1, 0), 1), ((0, 0), 0)])
@@ -156,6 +175,8 @@ def results():
     yield from (evening.greatest_fall(AWARDS), evening.even_changes(AWARDS), evening.greatest_change(AWARDS, [1, 1]))
     yield from rule_results()
     yield from ladder_results()
+    yield from suit_results()
+    yield from court_results()
 
 
 def rule_results():
@@ -177,6 +198,33 @@ def ladder_results():
         yield from (paper.text, paper.row_numbers())
     for kind in kinds.KINDS:
         yield from (ladder.keeper(kind, BOOK).table(), ladder.verdict(kind, BOOK, (1, 1))[0])
+    yield from (climbing.climb(ranked).weights, climbing.climb(weighing).rows, climbing.rung_of(weighing).table())
+    yield climbing.descend(papers.Quarrel(0, 1), QUARREL).counts
+
+
+def suit_results():
+    """What the functions and methods about suits return for some arguments."""
+    suit = suits.Suit([AB, forum.Forum("c")])
+    parts = ((1, 0), (1,))
+    rulings = suits.Rulings(suit, [(parts, "any", 1), (((0, 0), None), "any", 0)])
+    yield from (suit.joined_case(parts), rulings.rows, list(rulings), rulings.choice_rows(), rulings.added(parts, "all", 0).rows)
+    panel = panels.Panel(suit, [judges.Judge(AB), kinds.SingleJudge(suit.forums[1], 0)])
+    yield from (panel(parts, "all"), panel(parts, "any"), panel.first_break(rulings))
+    yield from (picks.known_parts(rulings, (1, None)), list(picks.all_picks(rulings)), picks.first_picks(rulings))
+    yield [judge.rows for judge in picks.panel_of(rulings, (1, None)).judges]
+    lost = rulings.added(parts, "any", 0)
+    yield from (trees.panel_or_tree(lost), trees.leaves(trees.panel_or_tree(lost)), issues.forced_picks(rulings))
+    yield issues.ruling_status(rulings, parts, "any")
+
+
+def court_results():
+    """What the functions and methods about courts return for some arguments."""
+    house = courts.Courts(AB, [-1, 0], [1, 0])
+    diary = courts.Diary(house, [("decide", 1, (1, 0), 1), ("close", 0), ("decide", 1, (1, 1), 0)])
+    yield from (house.line_of(1), diary.entries, list(diary), diary.closed_courts(), diary.closed(1).entries)
+    yield from (diary.decided(1, (0, 0), 0).entries, standing.standing(diary), standing.beater(diary, 0))
+    yield from (standing.binding(diary, 1).rows, telling.first_unclosed(diary, 1), telling.final_book(diary, 1).rows)
+    yield from (telling.told(diary, 1, (1, 1)), telling.lowest_court(diary, 1, (1, 1), 1))
 
 
 def truth_values(found):
