@@ -73,7 +73,6 @@ class WeighingJudge(Judge):
 
     def weight_of(self, case):
         """The sum of the weights of the steps that the case reaches."""
-        check_case(self.forum, case)
         return sum([weight for step, weight in enumerate(self.weights) if self.forum.reaches(case, step)])
 
 

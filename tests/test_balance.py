@@ -9,6 +9,7 @@ from settledcases.book import Book
 from settledcases.errors import NotYesNo
 from settledcases.forum import Forum
 from settledcases.kinds import WeighingJudge
+from settledcases.order import strongest, weakest
 from settledcases.papers import Balance
 from tests.support import FORUMS, all_cases, sample_books
 from tests.test_kinds import reaches
@@ -41,6 +42,20 @@ def weighable_books(seeds):
         at = source.randrange(10)
         rows[at] = (rows[at][0], 1 - rows[at][1])
         yield Book(forum, 1, rows), False
+
+
+def tight_books(seeds):
+    """Books of the weakest won and the strongest lost cases of judges with weights, as many as there is room for."""
+    for seed in range(seeds):
+        source = random.Random(f"tight {seed}")
+        cases = all_cases(ABCDE)
+        weights = [source.randint(1, 9) for _ in range(5)]
+        sums = {case: sum(weights[k] * case[k] for k in range(5)) for case in cases}
+        bar = source.randint(2, sum(weights) - 1)
+        won = weakest([case for case in cases if sums[case] >= bar])
+        lost = strongest([case for case in cases if sums[case] < bar])
+        rows = [(case, 1) for case in won] + [(case, 0) for case in lost]
+        yield Book(ABCDE, 1, source.sample(rows, min(len(rows), 10)))
 
 
 class WeighingKeeperTest(unittest.TestCase):
@@ -118,6 +133,10 @@ class WeighingKeeperTest(unittest.TestCase):
                 self.assertIsInstance(found, WeighingJudge)
             balanced += isinstance(found, Balance)
         self.assertGreater(balanced, 50)
+
+    def test_tight_books(self):
+        for book in tight_books(1200):
+            self.assertIsInstance(self.check(book), WeighingJudge)
 
     def test_many_books(self):
         for book in sample_books(FORUMS, (1,), range(11), 8):

@@ -239,6 +239,7 @@ class RulesTest(unittest.TestCase):
         rule = ((1, 0, 0), (1, 0, 3), 1)
         for rows, error in [
             ([good, lost], Bound), ([lost, good, good], Bound), ([good] * 10 + [lost], TooLarge), ([lost] * 11, TooLarge),
+            ([good, lost] + [good] * 9, TooLarge), ([good, lost] + [good] * 8, Bound),
             ([good] * 11 + [side], NoRule), ([good, lost, side], NoRule), ([side, good, grade], NoGrade),
             ([good] * 11 + [grade], NoGrade), ([grade, side, case], NoCase), ([grade, lost, rule], NoCase),
             ([side] * 12 + [rule], NoCase),
