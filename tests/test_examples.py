@@ -93,6 +93,34 @@
 >>> diary = Diary(courts, [("decide", 1, (1,), 1), ("decide", 0, (1,), 0), ("decide", 0, (1,), 1)])
 >>> [standing(diary), told(diary, 1, (1,)), told(diary.closed(0), 1, (1,))]
 [(0, 2), 'not yet', 'won']
+
+>>> from settledcases.forum import Forum
+>>> from settledcases.book import Book
+>>> from settledcases.asks import best_ask, fewest_asks, hard_answer
+>>> book = Book(Forum("ab"))
+>>> [fewest_asks(book), best_ask(book), hard_answer(book, (0, 1)), hard_answer(book, (1, 1))]
+[3, (0, 1), 0, 1]
+
+>>> from settledcases.forum import Forum
+>>> from settledcases.book import Book
+>>> from settledcases.judges import FloorJudge
+>>> from settledcases.learner import asked
+>>> from settledcases.teaching import teaching
+>>> book = Book(Forum("ab"))
+>>> judge = FloorJudge(book.forum, 1, [((1, 0), 1)])
+>>> [list(asked(book, judge)), teaching(book, judge)]
+[[((0, 1), 0), ((1, 0), 1)], [((1, 0), 1), ((0, 1), 0)]]
+
+>>> from settledcases.forum import Forum
+>>> from settledcases.docket import Docket
+>>> from settledcases.journal import journal
+>>> docket = Docket(Forum("a"))
+>>> docket.attempt([("decide", (1,), 0), ("decide", (0,), 1)])
+>>> docket.odds
+((1, 0),)
+>>> docket.undo()
+>>> [docket.odds, list(docket), journal(docket)]
+[(), [((1,), 0)], 'a// 1\\ndecide a// 0\\ndecide // 1\\nundo']
 """
 
 import doctest
@@ -111,7 +139,7 @@ def run_examples(text, name):
 
 class ExamplesTest(unittest.TestCase):
     def test_interface(self):
-        self.assertEqual(run_examples(__doc__, "interface"), (63, 0))
+        self.assertEqual(run_examples(__doc__, "interface"), (84, 0))
 
     def test_readme(self):
         with open(README, encoding="utf-8") as file:

@@ -70,10 +70,16 @@ def parameters_of(function):
     return [arg.arg for arg in found]
 
 
+def captures_of(node):
+    """The names that patterns capture."""
+    found = nodes_of(node, ast.MatchAs, ast.MatchStar)
+    return [pattern.name for pattern in found if pattern.name is not None]
+
+
 def local_names(function):
-    """The parameters of a function and the names that it assigns."""
+    """The parameters of a function and the names that it assigns or captures."""
     stores = [node.id for node in nodes_of(function, ast.Name) if not isinstance(node.ctx, ast.Load)]
-    return parameters_of(function) + stores
+    return parameters_of(function) + stores + captures_of(function)
 
 
 def module_names(tree):
@@ -205,6 +211,57 @@ class FormTest(unittest.TestCase):
         self.assertEqual(set(methods) & (METHODS - {"__init__", "add", "discard"}), set())
         for place, node in self.each(ast.Attribute):
             self.assertIn(node.attr, attributes | set(methods) | METHODS, place)
+
+    def test_matches(self):
+        """L6: patterns are sequences of strings and names, and a name is read only in its own case."""
+        for place, function in self.each(ast.FunctionDef):
+            for match in nodes_of(function, ast.Match):
+                taken = parameters_of(function) + [node.id for node in nodes_of(function, ast.Name) if isinstance(node.ctx, ast.Store)]
+                for at, case in enumerate(match.cases):
+                    names = captures_of(case.pattern)
+                    self.assertEqual(set(names) & set(taken), set(), place)
+                    self.assertEqual(len(set(names)), len(names), place)
+                    for node in nodes_of(case, ast.Lambda, ast.GeneratorExp, ast.ListComp, ast.SetComp, ast.DictComp):
+                        read = {name.id for name in nodes_of(node, ast.Name)}
+                        self.assertEqual(read & set(names), set(), place)
+                    whole = isinstance(case.pattern, ast.MatchAs) and case.guard is None
+                    self.assertTrue(not whole or at == len(match.cases) - 1, place)
+                outside = set(captures_of(match)) - set(taken)
+                inside = [name for case in match.cases for name in nodes_of(case, ast.Name)]
+                self.assertEqual([name.id for name in nodes_of(function, ast.Name) if name.id in outside and name not in inside], [])
+                for case in match.cases:
+                    foreign = outside - set(captures_of(case.pattern))
+                    self.assertEqual({name.id for name in nodes_of(case, ast.Name)} & foreign, set(), place)
+        for place, node in self.each(ast.MatchValue):
+            self.assertIsInstance(node.value.value, (str, int), place)
+        for place, node in self.each(ast.MatchClass, ast.MatchMapping):
+            self.fail(place)
+
+    def test_context_managers(self):
+        """L6: the rows of an __exit__ only put attributes back."""
+        for place, function in self.each(ast.FunctionDef):
+            if function.name == "__exit__":
+                for node in [part for statement in function.body for part in ast.walk(statement)]:
+                    self.assertIsInstance(node, (ast.If, ast.Assign, ast.Attribute, ast.Name, ast.Compare, ast.IsNot, ast.Constant,
+                                                 ast.Load, ast.Store), place)
+                read = {node.id for node in nodes_of(function, ast.Name)}
+                self.assertEqual(read, {"self", "kind"}, place)
+
+    def test_super(self):
+        """L5: only as a call of a method, directly in a method."""
+        for name, tree in TREES.items():
+            parents = parents_of(tree)
+            for node in nodes_of(tree, ast.Name):
+                if node.id == "super":
+                    call, attribute = parents[node], parents[parents[node]]
+                    self.assertTrue(isinstance(call, ast.Call) and not call.args and isinstance(attribute, ast.Attribute), name)
+                    self.assertTrue(isinstance(parents[attribute], ast.Call) and not attribute.attr.startswith("_"), name)
+
+    def test_words_beside_items(self):
+        """L17: barred in a package with __getitem__, in comments, too."""
+        for name, text, _ in FILES:
+            for word in ("(type)", "Meta", "metaclass="):
+                self.assertNotIn(word, text, name)
 
     def test_sets(self):
         """L24."""

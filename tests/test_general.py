@@ -4,9 +4,10 @@ import inspect
 import unittest
 from importlib import import_module
 
-from settledcases import balance, book, booklines, changes, climbing, closing, courts, evening, exchange, falls, forum
-from settledcases import issues, judges, kinds, ladder, leastbook, neighbors, order, overruling, panels, papers, picks
-from settledcases import rising, rules, settling, sidebooks, standing, suits, telling, thresholds, trees, web, widest
+from settledcases import asks, balance, book, booklines, chains, changes, climbing, closing, courts, docket, duel, evening
+from settledcases import exchange, falls, forum, issues, journal, judges, kinds, ladder, learner, leastbook, neighbors, order
+from settledcases import overruling, panels, papers, picks, rising, rules, settling, sidebooks, standing, suits, teaching
+from settledcases import telling, thresholds, trees, turns, web, widest
 from settledcases.errors import AtOdds, CourtError, NotYesNo, TooLarge
 
 # Each module with its functions and classes and their parameters.
@@ -73,6 +74,14 @@ INTERFACE = {
         "first_unclosed": "diary, court", "final_book": "diary, court", "told": "diary, court, case",
         "lowest_court": "diary, court, case, grade",
     },
+    "turns": {"turns": "diary", "history": "diary, court, case"},
+    "asks": {"fewest_asks": "book", "best_ask": "book", "hard_answer": "book, case"},
+    "learner": {"Learner": "book", "asked": "book, judge"},
+    "teaching": {"teaching": "book, judge", "turned_judge": "judge, case"},
+    "chains": {"fewest_chains": "book", "widest": "book"},
+    "duel": {"duel_value": "book, side", "duel_move": "book, side"},
+    "docket": {"Docket": "forum, top=1"},
+    "journal": {"journal": "docket", "replayed": "text"},
 }
 
 METHODS = {
@@ -103,6 +112,11 @@ METHODS = {
     ("panels", "Panel"): {"__call__": "parts, mode", "first_break": "rulings", "keeps": "rulings"},
     ("courts", "Courts"): {"line_of": "court"},
     ("courts", "Diary"): {"decided": "court, case, grade", "closed": "court", "closed_courts": ""},
+    ("learner", "Learner"): {"next_ask": "", "answer": "grade", "judge": ""},
+    ("docket", "Docket"): {
+        "bounds_at": "case", "decide": "case, grade", "strike": "number", "regrade": "number, grade", "undo": "", "redo": "",
+        "trial": "", "attempt": "deeds",
+    },
 }
 
 PROPERTIES = {
@@ -112,8 +126,10 @@ PROPERTIES = {
     ("papers", "Balance"): ("text",),
     ("papers", "ClosedSet"): ("text",),
     ("papers", "FailedSteps"): ("text",),
+    ("learner", "Learner"): ("remaining",),
+    ("docket", "Docket"): ("now", "odds"),
 }
-GENERATORS = {"unsettled", "rising_tables", "dividing", "overrulings", "free_cases", "all_picks"}
+GENERATORS = {"unsettled", "rising_tables", "dividing", "overrulings", "free_cases", "all_picks", "turns", "asked"}
 
 AB = forum.Forum("ab")
 BOOK = book.Book(AB, 1, [((1, 0), 1), ((0, 0), 0)])
@@ -177,6 +193,8 @@ def results():
     yield from ladder_results()
     yield from suit_results()
     yield from court_results()
+    yield from ask_results()
+    yield from docket_results()
 
 
 def rule_results():
@@ -225,6 +243,27 @@ def court_results():
     yield from (diary.decided(1, (0, 0), 0).entries, standing.standing(diary), standing.beater(diary, 0))
     yield from (standing.binding(diary, 1).rows, telling.first_unclosed(diary, 1), telling.final_book(diary, 1).rows)
     yield from (telling.told(diary, 1, (1, 1)), telling.lowest_court(diary, 1, (1, 1), 1))
+    yield from (list(turns.turns(diary)), turns.history(diary, 1, (1, 1)))
+
+
+def ask_results():
+    """What the functions and methods about asks return for some arguments."""
+    judge, open_book = kinds.SingleJudge(AB, 0), book.Book(AB)
+    yield from (asks.fewest_asks(open_book), asks.best_ask(open_book), asks.hard_answer(open_book, (1, 0)), asks.hard_answer(BOOK, (1, 1)))
+    taught = learner.Learner(open_book)
+    yield from (taught.remaining, taught.next_ask(), taught.answer(1), taught.answers, taught.remaining, taught.judge().rows)
+    yield from (list(learner.asked(open_book, judge)), teaching.teaching(open_book, judge), teaching.turned_judge(judge, (0, 1)).grades)
+    yield from (chains.fewest_chains(open_book), chains.widest(open_book))
+    for side in (0, 1):
+        yield from (duel.duel_value(open_book, side), duel.duel_move(open_book, side))
+
+
+def docket_results():
+    """What the functions and methods about dockets return for some arguments."""
+    files = docket.Docket(AB)
+    yield from (files.decide((1, 0), 1), files.decide((1, 1), 0), files.regrade(0, 0), files.undo(), files.strike(1), files.undo())
+    yield from (list(files), files[0], files.deeds, files.now.rows, files.odds, files.bounds_at((1, 0)), files.attempt([("redo",)]))
+    yield from (journal.journal(files), list(journal.replayed("ab// 1\ndecide a// 1")))
 
 
 def truth_values(found):
@@ -283,6 +322,9 @@ class ArgumentsTest(unittest.TestCase):
         book.Book(AB, 1, rows)
         papers.Balance(pairs).row_numbers()
         kinds.WeighingJudge(AB, sides, 1).table()
+        deeds = [("decide", (1, 0), 1), ("undo",)]
+        docket.Docket(AB).attempt(deeds)
+        self.assertEqual(deeds, [("decide", (1, 0), 1), ("undo",)])
         self.assertEqual((case_list, pairs), ([(1, 1), (0, 0), (1, 1)], [(0, 1), (0, 0), (0, 1)]))
         self.assertEqual((sides, rows), ([1, 2], [((1, 0), 1)]))
 
@@ -303,6 +345,7 @@ class ArgumentsTest(unittest.TestCase):
         for waiting, error in [
             (settling.unsettled(QUARREL), AtOdds), (sidebooks.dividing(QUARREL, BOOK), AtOdds),
             (rising.rising_tables(book.Book(forum.Forum("abcde"))), TooLarge), (falls.overrulings(AWARDS), NotYesNo),
+            (learner.asked(QUARREL, judges.Judge(AB)), AtOdds), (learner.asked(AWARDS, judges.Judge(AB)), NotYesNo),
         ]:
             with self.assertRaises(error):
                 list(waiting)
