@@ -35,6 +35,14 @@ def all_cases(forum):
     return list(product(*[range(limit + 1) for limit in forum.limits]))
 
 
+def word_by_hand(forum, case):
+    """The written form of a case, by the words of point 7."""
+    letters, count = forum.pro + forum.con, len(forum.pro)
+    pro = "".join(letters[k] for k in range(count) if case[k] == 1)
+    con = "".join(letters[k] for k in range(count, len(letters)) if case[k] == 0)
+    return f"{pro}/{con}/{''.join(str(level) for level in case[len(letters):])}"
+
+
 def all_quarrels(rows):
     """All quarrels of a list of decisions, ascending."""
     found = []

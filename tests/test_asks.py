@@ -1,11 +1,14 @@
 """Asks, and how many of them are enough (points 78 to 81)."""
 
 import unittest
+from itertools import product
 
 from settledcases.asks import best_ask, fewest_asks, hard_answer
 from settledcases.book import Book
 from settledcases.errors import AtOdds, NoCase, NotYesNo, TooLarge
 from settledcases.forum import Forum
+from settledcases.rising import rising_tables
+from settledcases.settling import unsettled
 from tests.support import FORUMS, HUGE, all_cases, all_quarrels, is_beneath, quiet_books, rising_maps, sample_books
 
 AB = Forum("ab")
@@ -66,12 +69,36 @@ def large_books():
             yield book
 
 
+class UnsettledCasesTest(unittest.TestCase):
+    """Points 78 and 79."""
+
+    def test_every_rising_way_has_a_judge(self):
+        for book in small_books():
+            if book.forum.size <= 8:
+                cases = unsettled_by_hand(book)
+                places = [all_cases(book.forum).index(case) for case in cases]
+                found = {tuple(table[place] for place in places) for table in rising_tables(book)}
+                ways = [dict(zip(cases, grades)) for grades in product((0, 1), repeat=len(cases))]
+                rising = [way for way in ways if all(way[x] <= way[y] for x in cases for y in cases if is_beneath(x, y))]
+                self.assertEqual(found, {tuple(way.values()) for way in rising})
+
+    def test_what_an_answer_settles(self):
+        for book in small_books():
+            cases = unsettled_by_hand(book)
+            for case in cases if len(book.rows) < 10 else []:
+                above, beneath = remainders(frozenset(cases), case)
+                self.assertEqual(list(unsettled(book.added(case, 1))), sorted(above))
+                self.assertEqual(list(unsettled(book.added(case, 0))), sorted(beneath))
+                self.assertNotIn(case, above | beneath)
+
+
 class FewestAsksTest(unittest.TestCase):
     """Points 78 to 80."""
 
     def test_example(self):
         book = Book(AB)
-        self.assertEqual([fewest_asks(book), best_ask(book), hard_answer(book, (0, 1)), hard_answer(book, (1, 1))], [3, (0, 1), 0, 1])
+        self.assertEqual([fewest_asks(book), best_ask(book), hard_answer(book, (0, 1)), hard_answer(book, (1, 1))],
+                         [3, (0, 1), 0, 1])
 
     def test_numbers_of_unsettled_cases(self):
         one = Book(Forum("a"), 1, [((0,), 0)])

@@ -53,7 +53,8 @@ class ChainsTest(unittest.TestCase):
     def test_forums_without_rows(self):
         for forum, width in [
             (Forum("a"), 1), (AB, 2), (Forum("abc"), 3), (Forum("abcd"), 6), (FIVE, 10), (Forum("ab", "cde"), 10),
-            (Forum("", "", (3,)), 1), (Forum("", "", (2, 2)), 3), (Forum("", "", (3, 2)), 3), (Forum("a", "b", (3,)), 4),
+            (Forum("", "", (3,)), 1), (Forum("", "", (2, 2)), 3), (Forum("", "", (3, 2)), 3),
+            (Forum("a", "b", (3,)), 4),
         ]:
             self.assertEqual(self.check(Book(forum)), width)
 

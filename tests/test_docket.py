@@ -222,7 +222,8 @@ class DeedsTest(DocketTest):
         docket.undo()
         self.assertEqual(list(docket), [((1, 0), 1)])
         before = state(docket)
-        for number, grade, error in [(0, 3, NoGrade), (0, -1, NoGrade), (1, 3, NoGrade), (1, 0, NoRow), (-1, 2, NoRow), (HUGE, 0, NoRow)]:
+        for number, grade, error in [(0, 3, NoGrade), (0, -1, NoGrade), (1, 3, NoGrade), (1, 0, NoRow), (-1, 2, NoRow),
+                                     (HUGE, 0, NoRow)]:
             with self.assertRaises(error):
                 docket[number] = grade
         self.assertEqual(state(docket), before)
@@ -315,11 +316,13 @@ class DeedsTest(DocketTest):
             self.refused(docket, ("regrade", 0, top + 1), NoGrade)
 
     def test_all_short_runs(self):
-        """Every run of six deeds of seven kinds, against the words of the points."""
+        """Every run of at most five deeds of seven kinds, and some runs of six, against the words of the points."""
         kinds = [("decide", (1,), 0), ("decide", (0,), 1), ("strike", 0), ("strike", 1), ("regrade", 0, 1), UNDO, REDO]
-        for count in range(7):
-            for deeds in product(kinds, repeat=count) if count < 6 else random.Random(6).choices(list(product(kinds, repeat=6)), k=4000):
-                self.run_both(Forum("a"), 1, deeds)
+        runs = [deeds for count in range(6) for deeds in product(kinds, repeat=count)]
+        source = random.Random(6)
+        runs += [source.choices(kinds, k=6) for _ in range(4000)]
+        for deeds in runs:
+            self.run_both(Forum("a"), 1, deeds)
 
     def test_long_runs(self):
         for forum in FORUMS:
@@ -358,7 +361,8 @@ class TrialTest(DocketTest):
             self.docket.strike(0)
             self.docket.decide((1, 0), 1)
         self.assertEqual(list(self.docket), [((1, 1), 0), ((1, 0), 1)])
-        self.assertEqual((self.docket.deeds, depth(self.docket)), (self.before[1] + (("strike", 0), ("decide", (1, 0), 1)), [4, 0]))
+        self.assertEqual((self.docket.deeds, depth(self.docket)),
+                         (self.before[1] + (("strike", 0), ("decide", (1, 0), 1)), [4, 0]))
 
     def test_a_trial_that_ends_with_an_exception(self):
         class Odd(Exception):

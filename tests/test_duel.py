@@ -40,7 +40,8 @@ class DuelTest(unittest.TestCase):
         # In a chain of n cases, side 1 wins all with its first move, and side 0 none of them.
         for forum in (Forum("a"), Forum("", "m"), Forum("", "", (3,))):
             self.assertEqual([duel_value(Book(forum), side) for side in (0, 1)], [0, forum.size])
-            self.assertEqual([duel_move(Book(forum), side) for side in (0, 1)], [forum.strongest_case, forum.weakest_case])
+            self.assertEqual([duel_move(Book(forum), side) for side in (0, 1)],
+                             [forum.strongest_case, forum.weakest_case])
         book = Book(AB, 1, [((0, 0), 0), ((1, 1), 1)])
         self.assertEqual([duel_value(book, side) for side in (0, 1)], [1, 1])
         self.assertEqual([duel_move(book=book, side=side) for side in (0, 1)], [(0, 1), (0, 1)])

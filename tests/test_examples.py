@@ -121,6 +121,13 @@
 >>> docket.undo()
 >>> [docket.odds, list(docket), journal(docket)]
 [(), [((1,), 0)], 'a// 1\\ndecide a// 0\\ndecide // 1\\nundo']
+
+>>> from settledcases.forum import Forum
+>>> from settledcases.docket import Docket
+>>> from settledcases.courthouse import Courthouse
+>>> house = Courthouse(Docket(Forum("ab"), 1))
+>>> house.run("decide a// 1\\ndecide ab// 0\\nfalls\\nundo\\nopinion b//")
+['1 0', '2 1', 'sometimes sometimes', '1 0', '0 unsettled unsettled unsettled']
 """
 
 import doctest
@@ -139,7 +146,7 @@ def run_examples(text, name):
 
 class ExamplesTest(unittest.TestCase):
     def test_interface(self):
-        self.assertEqual(run_examples(__doc__, "interface"), (84, 0))
+        self.assertEqual(run_examples(__doc__, "interface"), (89, 0))
 
     def test_readme(self):
         with open(README, encoding="utf-8") as file:

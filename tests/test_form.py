@@ -212,40 +212,42 @@ class FormTest(unittest.TestCase):
         for place, node in self.each(ast.Attribute):
             self.assertIn(node.attr, attributes | set(methods) | METHODS, place)
 
-    def test_matches(self):
-        """L6: patterns are sequences of strings and names, and a name is read only in its own case."""
+    def test_captured_names(self):
+        """L6: a captured name is read only in its own case, and nothing else in the function has it."""
         for place, function in self.each(ast.FunctionDef):
-            for match in nodes_of(function, ast.Match):
-                taken = parameters_of(function) + [node.id for node in nodes_of(function, ast.Name) if isinstance(node.ctx, ast.Store)]
-                for at, case in enumerate(match.cases):
-                    names = captures_of(case.pattern)
-                    self.assertEqual(set(names) & set(taken), set(), place)
-                    self.assertEqual(len(set(names)), len(names), place)
-                    for node in nodes_of(case, ast.Lambda, ast.GeneratorExp, ast.ListComp, ast.SetComp, ast.DictComp):
-                        read = {name.id for name in nodes_of(node, ast.Name)}
-                        self.assertEqual(read & set(names), set(), place)
-                    whole = isinstance(case.pattern, ast.MatchAs) and case.guard is None
-                    self.assertTrue(not whole or at == len(match.cases) - 1, place)
-                outside = set(captures_of(match)) - set(taken)
-                inside = [name for case in match.cases for name in nodes_of(case, ast.Name)]
-                self.assertEqual([name.id for name in nodes_of(function, ast.Name) if name.id in outside and name not in inside], [])
-                for case in match.cases:
-                    foreign = outside - set(captures_of(case.pattern))
-                    self.assertEqual({name.id for name in nodes_of(case, ast.Name)} & foreign, set(), place)
+            names, captured = nodes_of(function, ast.Name), set(captures_of(function))
+            stored = parameters_of(function) + [node.id for node in names if isinstance(node.ctx, ast.Store)]
+            self.assertEqual(captured & set(stored), set(), place)
+            cases = [case for match in nodes_of(function, ast.Match) for case in match.cases]
+            own = {node: captures_of(case.pattern) for case in cases for node in ast.walk(case)}
+            for node in names:
+                self.assertTrue(node.id not in captured or node.id in own.get(node, []), place)
+
+    def test_patterns(self):
+        """L6."""
+        for place, match in self.each(ast.Match):
+            for case in match.cases:
+                names = captures_of(case.pattern)
+                self.assertEqual(len(set(names)), len(names), place)
+                for node in nodes_of(case, ast.Lambda, ast.GeneratorExp, ast.ListComp, ast.SetComp, ast.DictComp):
+                    self.assertEqual({name.id for name in nodes_of(node, ast.Name)} & set(names), set(), place)
+                takes_all = isinstance(case.pattern, ast.MatchAs) and case.guard is None
+                self.assertTrue(not takes_all or case is match.cases[-1], place)
         for place, node in self.each(ast.MatchValue):
             self.assertIsInstance(node.value.value, (str, int), place)
-        for place, node in self.each(ast.MatchClass, ast.MatchMapping):
+        for place, _ in self.each(ast.MatchClass, ast.MatchMapping):
             self.fail(place)
 
     def test_context_managers(self):
         """L6: the rows of an __exit__ only put attributes back."""
+        allowed = (
+            ast.If, ast.Assign, ast.Attribute, ast.Name, ast.Compare, ast.IsNot, ast.Constant, ast.Load, ast.Store,
+        )
         for place, function in self.each(ast.FunctionDef):
             if function.name == "__exit__":
                 for node in [part for statement in function.body for part in ast.walk(statement)]:
-                    self.assertIsInstance(node, (ast.If, ast.Assign, ast.Attribute, ast.Name, ast.Compare, ast.IsNot, ast.Constant,
-                                                 ast.Load, ast.Store), place)
-                read = {node.id for node in nodes_of(function, ast.Name)}
-                self.assertEqual(read, {"self", "kind"}, place)
+                    self.assertIsInstance(node, allowed, place)
+                self.assertEqual({node.id for node in nodes_of(function, ast.Name)}, {"self", "kind"}, place)
 
     def test_super(self):
         """L5: only as a call of a method, directly in a method."""
@@ -254,8 +256,10 @@ class FormTest(unittest.TestCase):
             for node in nodes_of(tree, ast.Name):
                 if node.id == "super":
                     call, attribute = parents[node], parents[parents[node]]
-                    self.assertTrue(isinstance(call, ast.Call) and not call.args and isinstance(attribute, ast.Attribute), name)
-                    self.assertTrue(isinstance(parents[attribute], ast.Call) and not attribute.attr.startswith("_"), name)
+                    self.assertTrue(isinstance(call, ast.Call) and not call.args
+                                    and isinstance(attribute, ast.Attribute), name)
+                    self.assertTrue(isinstance(parents[attribute], ast.Call) and not attribute.attr.startswith("_"),
+                                    name)
 
     def test_words_beside_items(self):
         """L17: barred in a package with __getitem__, in comments, too."""
@@ -267,7 +271,8 @@ class FormTest(unittest.TestCase):
         """L24."""
         for name, tree in TREES.items():
             parents = parents_of(tree)
-            calls = [node for node in nodes_of(tree, ast.Call) if isinstance(node.func, ast.Name) and node.func.id == "set"]
+            calls = [node for node in nodes_of(tree, ast.Call) if isinstance(node.func, ast.Name)
+                     and node.func.id == "set"]
             for node in calls + nodes_of(tree, ast.SetComp):
                 parent = parents[node]
                 taken = isinstance(parent, ast.Call) and getattr(parent.func, "id", "") in ("sorted", "len")
@@ -318,5 +323,6 @@ class FormTest(unittest.TestCase):
             over = ast.unparse(loop.iter)
             for node in [part for statement in loop.body for part in ast.walk(statement)]:
                 if isinstance(node, ast.Call) and isinstance(node.func, ast.Attribute) and node.func.attr in (
-                        "append", "extend", "insert", "pop", "remove", "clear", "update", "setdefault", "reverse", "sort"):
+                        "append", "extend", "insert", "pop", "remove", "clear", "update", "setdefault", "reverse",
+                        "sort"):
                     self.assertNotIn(ast.unparse(node.func.value), re.split(r"[^\w.\[\]]", over), place)

@@ -4,10 +4,11 @@ import inspect
 import unittest
 from importlib import import_module
 
-from settledcases import asks, balance, book, booklines, chains, changes, climbing, closing, courts, docket, duel, evening
-from settledcases import exchange, falls, forum, issues, journal, judges, kinds, ladder, learner, leastbook, neighbors, order
-from settledcases import overruling, panels, papers, picks, rising, rules, settling, sidebooks, standing, suits, teaching
-from settledcases import telling, thresholds, trees, turns, web, widest
+from settledcases import askdesk, asks, balance, book, bookdesk, booklines, chains, changes, climbing, closing
+from settledcases import courtdesk, courthouse, courts, desk, docket, duel, evening, exchange, falldesk, falls, forum
+from settledcases import issuedesk, issues, journal, judges, kinds, ladder, ladderdesk, learner, leastbook, neighbors
+from settledcases import order, overruling, panels, paperlines, papers, picks, rising, rules, settling, sidebooks
+from settledcases import standing, suits, teaching, telling, thresholds, trees, turns, web, widest
 from settledcases.errors import AtOdds, CourtError, NotYesNo, TooLarge
 
 # Each module with its functions and classes and their parameters.
@@ -82,6 +83,15 @@ INTERFACE = {
     "duel": {"duel_value": "book, side", "duel_move": "book, side"},
     "docket": {"Docket": "forum, top=1"},
     "journal": {"journal": "docket", "replayed": "text"},
+    "desk": {"read_number": "word", "Desk": ""},
+    "bookdesk": {"BookDesk": "docket"},
+    "falldesk": {"FallDesk": "docket"},
+    "paperlines": {"read_paper": "text"},
+    "ladderdesk": {"LadderDesk": "docket"},
+    "askdesk": {"AskDesk": "docket"},
+    "courthouse": {"Courthouse": "docket"},
+    "issuedesk": {"IssueDesk": "suit"},
+    "courtdesk": {"CourtDesk": "courts"},
 }
 
 METHODS = {
@@ -114,9 +124,18 @@ METHODS = {
     ("courts", "Diary"): {"decided": "court, case, grade", "closed": "court", "closed_courts": ""},
     ("learner", "Learner"): {"next_ask": "", "answer": "grade", "judge": ""},
     ("docket", "Docket"): {
-        "bounds_at": "case", "decide": "case, grade", "strike": "number", "regrade": "number, grade", "undo": "", "redo": "",
+        "bounds_at": "case", "decide": "case, grade", "strike": "number", "regrade": "number, grade", "undo": "",
+        "redo": "",
         "trial": "", "attempt": "deeds",
     },
+    ("desk", "Desk"): {"reply": "words", "answer": "line", "run": "text"},
+    ("bookdesk", "BookDesk"): {"reply": "words", "together": "text"},
+    ("falldesk", "FallDesk"): {"reply": "words"},
+    ("ladderdesk", "LadderDesk"): {"reply": "words"},
+    ("askdesk", "AskDesk"): {"reply": "words"},
+    ("courthouse", "Courthouse"): {"reply": "words"},
+    ("issuedesk", "IssueDesk"): {"reply": "words"},
+    ("courtdesk", "CourtDesk"): {"reply": "words"},
 }
 
 PROPERTIES = {
@@ -175,7 +194,8 @@ def results():
     yield from (AB.size, AB.number((1, 0)), AB.steps, AB.limits, AB.weakest_case, AB.strongest_case)
     yield from (order.join_of((1, 0), (0, 1)), order.meet_of((1, 0), (0, 1)), order.between(AB, (0, 0), (1, 1)))
     yield from (BOOK.rows, AWARDS.at(2).rows, book.quarrels(QUARREL), book.bounds(BOOK, (1, 0)))
-    yield from (book.settled(BOOK, (1, 1)), judge.table(), judge((1, 0)), judge.first_break(book.Book(AB, 1, [((1, 0), 0)])))
+    yield from (book.settled(BOOK, (1, 1)), judge.table(), judge((1, 0)),
+                judge.first_break(book.Book(AB, 1, [((1, 0), 0)])))
     yield from (judge.parting(judges.Judge(AB)), exchange.ExchangedJudge(judge).table())
     yield from (exchange.exchanged_case(AB, (1, 0)), exchange.exchanged_book(BOOK).rows)
     yield from (neighbors.stronger_by_one(AB, (0, 0)), neighbors.shortest_chain(AB, (0, 0), (1, 1)))
@@ -195,6 +215,7 @@ def results():
     yield from court_results()
     yield from ask_results()
     yield from docket_results()
+    yield from desk_results()
 
 
 def rule_results():
@@ -210,7 +231,8 @@ def ladder_results():
     """What the functions and methods about the ladder of judges return for some arguments."""
     ranked, weighing = kinds.RankedJudge(AB, [(0, 1)], 0), kinds.WeighingJudge(AB, [1, 2], 2)
     yield from (kinds.SingleJudge(AB, 0).table(), ranked.table(), ranked.ground_for((1, 0)), ranked.ground_for((0, 1)))
-    yield from (weighing.table(), weighing.weight_of((1, 1)), closing.closing(BOOK), closing.greatest_closed_set(QUARREL))
+    yield from (weighing.table(), weighing.weight_of((1, 1)), closing.closing(BOOK),
+                closing.greatest_closed_set(QUARREL))
     found = [ladder.keeper(kind, QUARREL) for kind in kinds.KINDS] + [papers.Paper(), balance.weighing_keeper(QUARREL)]
     for paper in found:
         yield from (paper.text, paper.row_numbers())
@@ -225,7 +247,8 @@ def suit_results():
     suit = suits.Suit([AB, forum.Forum("c")])
     parts = ((1, 0), (1,))
     rulings = suits.Rulings(suit, [(parts, "any", 1), (((0, 0), None), "any", 0)])
-    yield from (suit.joined_case(parts), rulings.rows, list(rulings), rulings.choice_rows(), rulings.added(parts, "all", 0).rows)
+    yield from (suit.joined_case(parts), rulings.rows, list(rulings), rulings.choice_rows(),
+                rulings.added(parts, "all", 0).rows)
     panel = panels.Panel(suit, [judges.Judge(AB), kinds.SingleJudge(suit.forums[1], 0)])
     yield from (panel(parts, "all"), panel(parts, "any"), panel.first_break(rulings))
     yield from (picks.known_parts(rulings, (1, None)), list(picks.all_picks(rulings)), picks.first_picks(rulings))
@@ -249,10 +272,13 @@ def court_results():
 def ask_results():
     """What the functions and methods about asks return for some arguments."""
     judge, open_book = kinds.SingleJudge(AB, 0), book.Book(AB)
-    yield from (asks.fewest_asks(open_book), asks.best_ask(open_book), asks.hard_answer(open_book, (1, 0)), asks.hard_answer(BOOK, (1, 1)))
+    yield from (asks.fewest_asks(open_book), asks.best_ask(open_book), asks.hard_answer(open_book, (1, 0)),
+                asks.hard_answer(BOOK, (1, 1)))
     taught = learner.Learner(open_book)
-    yield from (taught.remaining, taught.next_ask(), taught.answer(1), taught.answers, taught.remaining, taught.judge().rows)
-    yield from (list(learner.asked(open_book, judge)), teaching.teaching(open_book, judge), teaching.turned_judge(judge, (0, 1)).grades)
+    yield from (taught.remaining, taught.next_ask(), taught.answer(1), taught.answers, taught.remaining,
+                taught.judge().rows)
+    yield from (list(learner.asked(open_book, judge)), teaching.teaching(open_book, judge),
+                teaching.turned_judge(judge, (0, 1)).grades)
     yield from (chains.fewest_chains(open_book), chains.widest(open_book))
     for side in (0, 1):
         yield from (duel.duel_value(open_book, side), duel.duel_move(open_book, side))
@@ -261,9 +287,26 @@ def ask_results():
 def docket_results():
     """What the functions and methods about dockets return for some arguments."""
     files = docket.Docket(AB)
-    yield from (files.decide((1, 0), 1), files.decide((1, 1), 0), files.regrade(0, 0), files.undo(), files.strike(1), files.undo())
-    yield from (list(files), files[0], files.deeds, files.now.rows, files.odds, files.bounds_at((1, 0)), files.attempt([("redo",)]))
+    yield from (files.decide((1, 0), 1), files.decide((1, 1), 0), files.regrade(0, 0), files.undo(), files.strike(1),
+                files.undo())
+    yield from (list(files), files[0], files.deeds, files.now.rows, files.odds, files.bounds_at((1, 0)),
+                files.attempt([("redo",)]))
     yield from (journal.journal(files), list(journal.replayed("ab// 1\ndecide a// 1")))
+
+
+def desk_results():
+    """What the functions and methods of desks return for some arguments."""
+    yield from (desk.read_number("12"), desk.Desk().run("a\nb"), desk.Desk().lines,
+                paperlines.read_paper("balance 0:1 1:1").counts)
+    house = courthouse.Courthouse(docket.Docket(AB))
+    yield from (house.run("decide a// 1\ndecide ab// 0\nfalls"), house.together("undo\nopinion a//"), house.lines,
+                house.answer("asks"))
+    for kind in (bookdesk.BookDesk, falldesk.FallDesk, ladderdesk.LadderDesk, askdesk.AskDesk):
+        yield kind(docket.Docket(AB)).run("decide a// 1\nquarrels\neven\npaper single\nwidth")
+    files = issuedesk.IssueDesk(suits.Suit([AB]))
+    yield from (files.run("rule all 1 a//\nstatus any ab//"), files.rulings.rows, files.lines)
+    files = courtdesk.CourtDesk(courts.Courts(AB, [-1, 0], [1, 0]))
+    yield from (files.run("decide 1 a// 1\ntold 1 a//\nlowest 1 a// 0"), files.diary.entries, files.lines)
 
 
 def truth_values(found):
@@ -332,8 +375,10 @@ class ArgumentsTest(unittest.TestCase):
         """Point 4."""
         rows, prices, pairs = [((1, 0), 1), ((1, 1), 3)], [1, 0], [(0, 0), (3, 3)]
         for asked in (
-            lambda: book.Book(AB, 1, rows), lambda: judges.CeilingJudge(AB, 1, rows), lambda: overruling.apart(QUARREL, prices),
-            lambda: web.most_apart(prices, prices, pairs), lambda: overruling.regraded(QUARREL, [1, 2, 3]), lambda: QUARREL - [1, 2],
+            lambda: book.Book(AB, 1, rows), lambda: judges.CeilingJudge(AB, 1, rows),
+            lambda: overruling.apart(QUARREL, prices),
+            lambda: web.most_apart(prices, prices, pairs), lambda: overruling.regraded(QUARREL, [1, 2, 3]),
+            lambda: QUARREL - [1, 2],
         ):
             with self.assertRaises(CourtError):
                 asked()

@@ -7,19 +7,11 @@ from settledcases.docket import Docket
 from settledcases.errors import BadText, CourtError
 from settledcases.forum import Forum
 from settledcases.journal import journal, replayed
-from tests.support import FORUMS, all_cases
+from tests.support import FORUMS, all_cases, word_by_hand
 from tests.test_docket import REDO, UNDO, Model, depth, do, sample_deeds, state
 
 A = Forum("a")
 SIGNS = " \n/am0123456789-+decidstrkgunol\tx"
-
-
-def word_by_hand(forum, case):
-    """The written form of a case, by the words of point 7."""
-    letters, count = forum.pro + forum.con, len(forum.pro)
-    pro = "".join(letters[k] for k in range(count) if case[k] == 1)
-    con = "".join(letters[k] for k in range(count, len(letters)) if case[k] == 0)
-    return f"{pro}/{con}/{''.join(str(level) for level in case[len(letters):])}"
 
 
 def line_by_hand(forum, deed):
@@ -83,7 +75,8 @@ class JournalTest(unittest.TestCase):
 
     def test_each_deed(self):
         docket = Docket(Forum("a", "m", (2,)), 4)
-        docket.attempt([("decide", (1, 0, 2), 4), ("decide", (0, 1, 0), 0), ("regrade", 1, 3), ("strike", 0), UNDO, REDO])
+        docket.attempt([("decide", (1, 0, 2), 4), ("decide", (0, 1, 0), 0), ("regrade", 1, 3), ("strike", 0), UNDO,
+                        REDO])
         text = "a/m/2 4\ndecide a/m/2 4\ndecide //0 0\nregrade 1 3\nstrike 0\nundo\nredo"
         self.assertEqual(journal(docket), text)
         found = replayed(text)
@@ -146,7 +139,8 @@ class JournalTest(unittest.TestCase):
         self.assertIsNone(self.check("\n".join(lines)))
         for at in range(len(lines) + 1):
             self.check("\n".join(lines[:at] + lines[at + 1:]))
-            for line in lines + ["", " ", "undo ", "strike", "strike 10", "regrade 0", "regrade 0 2", "decide a/ 1", "trial"]:
+            for line in lines + ["", " ", "undo ", "strike", "strike 10", "regrade 0", "regrade 0 2", "decide a/ 1",
+                                 "trial"]:
                 self.check("\n".join(lines[:at] + [line] + lines[at:]))
             for other in range(at):
                 if at < len(lines):
@@ -155,17 +149,22 @@ class JournalTest(unittest.TestCase):
                     self.check("\n".join(mixed))
 
     def test_bad_first_lines(self):
-        for text in ["", "\n", " ", "a//", "a// ", "a// 0", "a// 5", "a// 10", "a// 01", "a//  1", " a// 1", "a// 1 ", "a// x", "a// -1", "// 1",
-                     "aa// 1", "A// 1", "a/ 1", "a/// 1", "a//4 1", "abcdef// 1", "1", " 1", "a//1", "undo", "a// 1\tundo"]:
+        for text in ["", "\n", " ", "a//", "a// ", "a// 0", "a// 5", "a// 10", "a// 01", "a//  1", " a// 1", "a// 1 ",
+                     "a// x", "a// -1", "// 1",
+                     "aa// 1", "A// 1", "a/ 1", "a/// 1", "a//4 1", "abcdef// 1", "1", " 1", "a//1", "undo",
+                     "a// 1\tundo"]:
             for rest in ("", "\nundo", "\ndecide a// 1"):
                 self.bad(text + rest, 1)
 
     def test_bad_later_lines(self):
-        for line in ["", " ", "undo ", " undo", "undo 0", "Undo", "redo", "undo", "strike 0", "strike", "strike ", "strike a", "regrade 0 0", "decide",
-                     "decide a//", "decide a// ", "decide a// 2", "decide a// 01", "decide  a// 1", "decide b// 1", "decide (1,) 1", "decide a// 1 1",
+        for line in ["", " ", "undo ", " undo", "undo 0", "Undo", "redo", "undo", "strike 0", "strike", "strike ",
+                     "strike a", "regrade 0 0", "decide",
+                     "decide a//", "decide a// ", "decide a// 2", "decide a// 01", "decide  a// 1", "decide b// 1",
+                     "decide (1,) 1", "decide a// 1 1",
                      "decide 1 a//", "decide a// -1", "decide a// +1", "attempt", "trial", "now"]:
             self.bad("a// 1\n" + line, 2)
-            self.bad("a// 1\ndecide a// 1\nundo\nredo\nundo\n" + (line if line not in ("undo", "redo") else "strike 0"), 6)
+            self.bad("a// 1\ndecide a// 1\nundo\nredo\nundo\n" + (line if line not in ("undo", "redo") else "strike 0"),
+                     6)
             self.bad("a// 1\n" + line + "\nundo\nx", 2)
 
     def test_newline_at_the_end(self):

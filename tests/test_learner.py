@@ -43,7 +43,8 @@ def judges_of(forum):
     steps = range(len(forum.steps))
     yield from (Judge(forum), FloorJudge(forum, 1, won), CeilingJudge(forum, 1, lost), FloorJudge(forum, 1, won + lost))
     yield from (SingleJudge(forum, 0), RankedJudge(forum, [(step, step % 2) for step in steps], 1))
-    yield from (WeighingJudge(forum, [step + 1 for step in steps], 2), TableJudge(forum, 1, SingleJudge(forum, 0).table()))
+    yield from (WeighingJudge(forum, [step + 1 for step in steps], 2),
+                TableJudge(forum, 1, SingleJudge(forum, 0).table()))
     other = exchanged_forum(forum)
     yield from (ExchangedJudge(SingleJudge(other, steps[-1])), ExchangedJudge(Judge(other)))
 
@@ -121,7 +122,8 @@ class LearnerTest(unittest.TestCase):
             self.assertEqual(left_by_hand(FIVE, told), [])
             self.assertEqual((learner.judge().rows, learner.judge().top), (tuple(told), 1))
             self.assertTrue(learner.judge().keeps(learner.start))
-            self.assertEqual([learner.judge()(case) for case, _ in learner.answers], [grade for _, grade in learner.answers])
+            self.assertEqual([learner.judge()(case) for case, _ in learner.answers],
+                             [grade for _, grade in learner.answers])
 
     def test_judge(self):
         learner = Learner(Book(AB, 1, [((1, 1), 1)]))
@@ -189,7 +191,8 @@ class AskedTest(unittest.TestCase):
         lost = [((1, 1), 0), ((1, 0), 1)]
         zero = Judge(AB)
         for book, judge, error in [
-            (Book(AB, 2), Judge(AB, 2), NotYesNo), (Book(AB, 3, quarrel), Judge(ABC), NotYesNo), (Book(AB, 2), zero, NotYesNo),
+            (Book(AB, 2), Judge(AB, 2), NotYesNo), (Book(AB, 3, quarrel), Judge(ABC), NotYesNo),
+            (Book(AB, 2), zero, NotYesNo),
             (Book(AB, 1, quarrel), Judge(ABC), OtherForum), (Book(AB, 1, quarrel), Judge(AB, 2), OtherForum),
             (Book(AB), Judge(Forum("ba")), OtherForum), (Book(AB), Judge(Forum("a", "b")), OtherForum),
             (Book(AB, 1, quarrel), zero, AtOdds), (Book(AB, 1, lost), SingleJudge(AB, 0), AtOdds),

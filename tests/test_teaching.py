@@ -86,7 +86,8 @@ class TeachingTest(unittest.TestCase):
         quarrel = [((1, 0), 1), ((1, 1), 0)]
         zero = Judge(AB)
         for book, judge, error in [
-            (Book(AB, 2), Judge(AB, 2), NotYesNo), (Book(AB, 3, quarrel), Judge(ABC), NotYesNo), (Book(AB, 2), zero, NotYesNo),
+            (Book(AB, 2), Judge(AB, 2), NotYesNo), (Book(AB, 3, quarrel), Judge(ABC), NotYesNo),
+            (Book(AB, 2), zero, NotYesNo),
             (Book(AB, 1, quarrel), Judge(ABC), OtherForum), (Book(AB, 1, quarrel), Judge(AB, 2), OtherForum),
             (Book(AB), Judge(Forum("ba")), OtherForum), (Book(AB, 1, quarrel), zero, AtOdds),
             (Book(AB, 1, [((1, 1), 1)]), zero, Bound),

@@ -90,7 +90,8 @@ class TurnsTest(unittest.TestCase):
 
 class HistoryTest(unittest.TestCase):
     def test_day_by_day(self):
-        diary = Diary(TWO, [decision(1, WON), ("close", 1), decision(0, LOST), decision(0, WON), decision(0, ((1,), 1))])
+        diary = Diary(TWO, [decision(1, WON), ("close", 1), decision(0, LOST), decision(0, WON),
+                            decision(0, ((1,), 1))])
         self.assertEqual(history(diary, 1, (1,)), [1, 1, 0, 1, 1])
         self.assertEqual(history(diary, court=0, case=(0,)), [None, None, 0, 1, 1])
         self.assertEqual(history(Diary(TWO), 1, (1,)), [])
@@ -101,7 +102,8 @@ class HistoryTest(unittest.TestCase):
                 for case in all_cases(diary.courts.forum):
                     found = history(diary, court, case)
                     self.assertEqual(found, history_by_hand(diary, court, case))
-                    books = [binding(Diary(diary.courts, diary.entries[:day + 1]), court) for day in range(len(diary.entries))]
+                    books = [binding(Diary(diary.courts, diary.entries[:day + 1]), court)
+                             for day in range(len(diary.entries))]
                     self.assertEqual(found, [settled(book, case) for book in books])
 
     def test_new_lists(self):
